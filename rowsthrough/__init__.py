@@ -1,0 +1,1 @@
+"""Rows of words brought through a net: network coding with errors, erasures and taps."""

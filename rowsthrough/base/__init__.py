@@ -1,0 +1,1 @@
+"""Words of fields and matrices."""

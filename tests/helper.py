@@ -1,0 +1,275 @@
+"""What several tests need: wrong values, checks of parameters, examples, and arithmetic of the tests' own."""
+
+import ast
+import copy
+import itertools
+
+from rowsthrough import errors
+from rowsthrough.base.fields import Field
+
+
+def deep(turns):
+    value = 0
+    for _ in range(turns):
+        value = (value,)
+    return value
+
+
+def junk():
+    """Values of all kinds that [0.4] names; no parameter takes any of them."""
+    return [
+        None, True, False, -1, 10 ** 60, -10 ** 60, "", "one", "solution", "a\nb" * 1000, [], [0], [[1]], {}, {0: 1},
+        {"a": (1,)}, (None,), (True,), ((False,), 1), ("a", "b"), ([],), deep(20), ({},), (Field(2, 1), 0), Field(7, 3),
+    ]
+
+
+def without(values, *kinds):
+    return [value for value in values if not isinstance(value, kinds)]
+
+
+def spoiled(value):
+    """Copies of a right value with one thing wrong: a tuple made a list, an integer made another kind."""
+    if isinstance(value, tuple):
+        yield list(value)
+        yield {"a": value}
+        for place, member in enumerate(value):
+            for wrong in spoiled(member):
+                yield value[:place] + (wrong,) + value[place + 1:]
+    elif isinstance(value, int):
+        yield from (bool(value), None, str(value), [value], (value, value, value, value, value, value, value), 10 ** 60,
+                    -10 ** 60, {})
+    else:
+        yield from (None, 0, "", (), [])
+
+
+def told(case, function, arguments, wanted, given=()):
+    """The call raises just the wanted error, keeps the number, and changes no argument."""
+    before = [repr(argument) for argument in arguments]
+    kept = copy.copy(arguments)
+    with case.assertRaises(wanted, msg=(function.__name__, arguments)) as caught:
+        function(*arguments)
+    case.assertIs(type(caught.exception), wanted, (function.__name__, arguments))
+    if wanted is errors.InvalidNumber:
+        kept_value = caught.exception.given
+        case.assertTrue(any(type(kept_value) is type(value) and kept_value == value for value in given), arguments)
+    case.assertEqual([repr(argument) for argument in kept], before)
+
+
+def check_parameters(case, function, right, wrong):
+    """Each wrong argument is told, and the first one of two.
+
+    `wrong` has for each parameter None or a pair of the error and of wrong values.
+    """
+    before = repr(right)
+    function(*right)
+    case.assertEqual(repr(right), before)
+    for place, entry in enumerate(wrong):
+        if entry is None:
+            continue
+        for value in entry[1]:
+            arguments = list(right)
+            arguments[place] = value
+            told(case, function, arguments, entry[0], [value])
+        for further in range(place + 1, len(wrong)):
+            if wrong[further] is None:
+                continue
+            for value, other in zip(entry[1], itertools.cycle(wrong[further][1])):
+                arguments = list(right)
+                arguments[place] = value
+                arguments[further] = other
+                told(case, function, arguments, entry[0], [value])
+
+
+def check_judge(case, function, arguments, values=()):
+    """The judge raises nothing for values of any kind, and takes none of these."""
+    for value in [*junk(), 0, 1, 7, (), ((),), *values]:
+        before = repr(value)
+        case.assertIs(function(*arguments, value), False, (function.__name__, arguments, value))
+        case.assertEqual(repr(value), before)
+
+
+def pairs_of(*kinds):
+    """No paper: a kind with values of all kinds."""
+    return [(kind, value) for kind in kinds for value in [*junk(), 0, 1, (), ((),), ((1,),), ((1, 0), (0, 1))]]
+
+
+def run_examples(case, text, names):
+    """The rows that begin with >>> give the row behind them, or raise what it tells."""
+    rows = [row for row in text.strip().split("\n") if row]
+    for row, further in zip(rows, [*rows[1:], ""]):
+        if not row.startswith(">>> "):
+            continue
+        code = row[4:]
+        wanted = further if not further.startswith(">>> ") else ""
+        with case.subTest(code):
+            if wanted.startswith("raises "):
+                check_raised(case, code, wanted[7:], names)
+            elif wanted:
+                case.assertEqual(eval(code, names), ast.literal_eval(wanted))
+            else:
+                exec(code, names)
+
+
+def check_raised(case, code, wanted, names):
+    name, _, kept = wanted.partition("(")
+    error = getattr(errors, name)
+    with case.assertRaises(error) as caught:
+        eval(code, names)
+    case.assertIs(type(caught.exception), error)
+    if kept:
+        case.assertEqual(list(vars(caught.exception).values()), [ast.literal_eval("(" + kept)])
+
+
+def tuples(q, many):
+    """All tuples of so many base numbers."""
+    return itertools.product(range(q), repeat=many)
+
+
+def own_divides(q, divisor, whole):
+    """Whether the monic polynomial divides the whole one; both with all their numbers."""
+    rest = list(whole)
+    while len(rest) >= len(divisor):
+        factor = rest[-1]
+        start = len(rest) - len(divisor)
+        for place, number in enumerate(divisor):
+            rest[start + place] = (rest[start + place] - factor * number) % q
+        rest.pop()
+    return not any(rest)
+
+
+def own_is_free(q, lower):
+    """Whether no monic polynomial of a degree from 1 to m // 2 divides this one, all of them being tried."""
+    whole = (*lower, 1)
+    return not any(
+        own_divides(q, (*divisor, 1), whole)
+        for degree in range(1, len(lower) // 2 + 1)
+        for divisor in tuples(q, degree)
+    )
+
+
+class Own:
+    """Arithmetic of words, by the tests' own polynomials."""
+
+    def __init__(self, q, m):
+        self.q = q
+        self.m = m
+        self.lower = self.least()
+        self.zero = (0,) * m
+        self.one = (1,) + (0,) * (m - 1)
+
+    def least(self):
+        if self.m == 1:
+            return (0,)
+        # Those with the first number 0 are multiples of x.
+        for first in range(1, self.q):
+            for further in tuples(self.q, self.m - 1):
+                if own_is_free(self.q, (first, *further)):
+                    return (first, *further)
+
+    def words(self):
+        return [tuple(reversed(digits)) for digits in tuples(self.q, self.m)]
+
+    def plus(self, one, other):
+        return tuple((a + b) % self.q for a, b in zip(one, other))
+
+    def minus(self, one, other):
+        return tuple((a - b) % self.q for a, b in zip(one, other))
+
+    def times(self, one, other):
+        numbers = [0] * (2 * self.m - 1)
+        for i, a in enumerate(one):
+            for j, b in enumerate(other):
+                numbers[i + j] += a * b
+        while len(numbers) > self.m:
+            last = numbers.pop()
+            for place, number in enumerate(self.lower):
+                numbers[len(numbers) - self.m + place] -= last * number
+        return tuple(number % self.q for number in numbers)
+
+    def power(self, word, number):
+        found = self.one
+        for bit in bin(number)[2:]:
+            found = self.times(found, found)
+            if bit == "1":
+                found = self.times(found, word)
+        return found
+
+    def raised(self, word, turns):
+        for _ in range(turns):
+            word = self.power(word, self.q)
+        return word
+
+    def inverse(self, word):
+        return self.power(word, self.q ** self.m - 2) if self.q ** self.m > 2 else word
+
+    def total(self, words):
+        found = self.zero
+        for word in words:
+            found = self.plus(found, word)
+        return found
+
+    def dot(self, one, other):
+        assert len(one) == len(other)
+        return self.total(self.times(a, b) for a, b in zip(one, other))
+
+    def echelon(self, rows):
+        """The echelon of word rows, by steps on one column after another."""
+        left = [list(row) for row in rows]
+        done = []
+        for column in range(len(left[0]) if left else 0):
+            begun = next((row for row in left if row[column] != self.zero), None)
+            if begun is None:
+                continue
+            left.remove(begun)
+            factor = self.inverse(begun[column])
+            begun = [self.times(factor, word) for word in begun]
+            left = [self.cleared(row, begun, column) for row in left]
+            done = [self.cleared(row, begun, column) for row in done] + [begun]
+        return tuple(tuple(row) for row in done)
+
+    def cleared(self, row, begun, column):
+        factor = row[column]
+        return [self.minus(word, self.times(factor, other)) for word, other in zip(row, begun)]
+
+    def product(self, one, other):
+        columns = list(zip(*other))
+        return tuple(tuple(self.dot(row, column) for column in columns) for row in one)
+
+    def unit(self, many):
+        return tuple(tuple(self.one if i == j else self.zero for j in range(many)) for i in range(many))
+
+
+def lifted_rows(rows):
+    """Base rows as word rows of a field of degree 1."""
+    return tuple(tuple((number,) for number in row) for row in rows)
+
+
+def lowered_rows(rows):
+    return tuple(tuple(word[0] for word in row) for row in rows)
+
+
+def own_rank(q, words):
+    """The rank over the base, by how many words are sums of base numbers times these."""
+    if not words:
+        return 0
+    span = {(0,) * len(words[0])}
+    rank = 0
+    for word in words:
+        if tuple(word) not in span:
+            rank += 1
+            span = {
+                tuple((a + c * b) % q for a, b in zip(known, word)) for known in span for c in range(q)
+            }
+    return rank
+
+
+def random_words(random, q, m, many):
+    return tuple(tuple(random.randrange(q) for _ in range(m)) for _ in range(many))
+
+
+def random_rows(random, q, many, columns):
+    return tuple(tuple(random.randrange(q) for _ in range(columns)) for _ in range(many))
+
+
+def random_word_rows(random, q, m, many, columns):
+    return tuple(random_words(random, q, m, columns) for _ in range(many))
