@@ -239,6 +239,58 @@ class Own:
         return tuple(tuple(self.one if i == j else self.zero for j in range(many)) for i in range(many))
 
 
+class OwnPolynomials(Own):
+    """Linearised polynomials, by the tests' own coefficients."""
+
+    def value(self, polynomial, word):
+        return self.total(self.times(c, self.raised(word, i)) for i, c in enumerate(polynomial))
+
+    def trimmed(self, words):
+        words = list(words)
+        while words and words[-1] == self.zero:
+            words.pop()
+        return tuple(words)
+
+    def sum_of(self, one, other):
+        many = max(len(one), len(other))
+        one = (*one, *(self.zero,) * (many - len(one)))
+        other = (*other, *(self.zero,) * (many - len(other)))
+        return self.trimmed(self.plus(a, b) for a, b in zip(one, other))
+
+    def behind(self, one, other):
+        found = [self.zero] * (len(one) + len(other))
+        for i, a in enumerate(one):
+            for j, b in enumerate(other):
+                found[i + j] = self.plus(found[i + j], self.times(a, self.raised(b, i)))
+        return self.trimmed(found)
+
+    def polynomials(self, many):
+        """All polynomials with at most so many coefficients."""
+        return [self.trimmed(words) for words in itertools.product(self.words(), repeat=many)]
+
+    def random_polynomial(self, random, many):
+        """A polynomial with just so many coefficients."""
+        words = list(random_words(random, self.q, self.m, many))
+        if words and words[-1] == self.zero:
+            words[-1] = self.one
+        return tuple(words)
+
+    def span(self, words):
+        """All sums of base numbers times the words."""
+        found = {self.zero}
+        for word in words:
+            found = {
+                self.plus(known, tuple(c * digit % self.q for digit in word)) for known in found for c in range(self.q)
+            }
+        return found
+
+    def rank(self, words):
+        return own_rank(self.q, words)
+
+    def wrong_rank(self, points, received, polynomial):
+        return self.rank([self.minus(word, self.value(polynomial, point)) for word, point in zip(received, points)])
+
+
 def lifted_rows(rows):
     """Base rows as word rows of a field of degree 1."""
     return tuple(tuple((number,) for number in row) for row in rows)
@@ -249,17 +301,17 @@ def lowered_rows(rows):
 
 
 def own_rank(q, words):
-    """The rank over the base, by how many words are sums of base numbers times these."""
-    if not words:
-        return 0
-    span = {(0,) * len(words[0])}
+    """The rank over the base, by steps on one column after another."""
+    left = [list(word) for word in words]
     rank = 0
-    for word in words:
-        if tuple(word) not in span:
-            rank += 1
-            span = {
-                tuple((a + c * b) % q for a, b in zip(known, word)) for known in span for c in range(q)
-            }
+    for column in range(len(left[0]) if left else 0):
+        begun = next((row for row in left if row[column]), None)
+        if begun is None:
+            continue
+        rank += 1
+        left.remove(begun)
+        # Rows are multiplied instead of divided: so no inverse is needed.
+        left = [[(begun[column] * a - row[column] * b) % q for a, b in zip(row, begun)] for row in left]
     return rank
 
 

@@ -1,0 +1,1 @@
+"""Linearised polynomials, rank codes, decoding by ranks."""
