@@ -230,12 +230,14 @@ class Judge(unittest.TestCase):
             self.assertEqual(bool(right), near_answer(field, points, size, received, 0)[0] == "apart")
 
     def test_values_of_any_kind(self):
-        for received, most in ((BENT, 1), (((1, 0, 0), (1, 0, 0), (0, 1, 0)), 0), (((1, 1, 0), (1, 0, 0), (0, 0, 0)), 1)):
+        apart, far = ((1, 0, 0), (1, 0, 0), (0, 1, 0)), ((1, 1, 0), (1, 0, 0), (0, 0, 0))
+        for received, most in ((BENT, 1), (apart, 0), (far, 1)):
             arguments = [F8, P4, 1, received, most]
             right = near_answer(*arguments)
             values = [
-                *spoiled(right), *pairs_of("near", "apart", "far", "found", 1, None)[1:], right[1:], (right,), list(right),
-                (*right, ()), (*right[:-1], (*right[-1], (0, 0, 0))), *widened(right), ("far", 0, 0), ("far", (), ()), ("far", ((0, 0, 0),), ()),
+                *spoiled(right), *pairs_of("near", "apart", "far", "found", 1, None), right[1:], (right,), list(right),
+                (*right, ()), (*right[:-1], (*right[-1], (0, 0, 0))), *widened(right), ("far", 0, 0), ("far", (), ()),
+                ("far", ((0, 0, 0),), ()),
                 ("far", None, ()), ("far", [], ()), ("far", (), ((1, 0, 0),)), ("far", ((1, 0, 0),), ((1, 1, 1), (1, 0, 0))),
                 ("apart", ()), ("apart", (((1, 0, 0),) * 3,) * 2), ("none",), ("near",), ("far", ()), ("near", ((1, 1, 1),)),
             ]
