@@ -33,6 +33,7 @@ KINDS = ((2, 1), (2, 2), (2, 3), (2, 4), (3, 1), (3, 2), (5, 2), (2, 5), (2, 6),
 OWN = {kind: OwnPolynomials(*kind) for kind in KINDS}
 F8, P4 = Field(2, 3), ((1, 0, 0), (0, 1, 0), (0, 0, 1))
 BENT = ((1, 0, 0), (1, 1, 1), (0, 1, 1))
+APART = ((1, 0, 0), (1, 0, 0), (0, 1, 0))
 WRONG_FIELDS = [*without(junk(), Field), 0, 2, (3, 2), ()]
 
 
@@ -245,18 +246,24 @@ class Judge(unittest.TestCase):
             check_judge(self, is_near_answer, arguments, values)
 
     def test_helpers_of_any_kind(self):
-        for received, most in ((BENT, 1), (((1, 0, 0), (1, 0, 0), (0, 1, 0)), 1)):
+        for received, most in ((BENT, 1), (APART, 1)):
             arguments = [F8, P4, 1, received, most]
             first, second = helpers(*arguments)
             values = [
                 *spoiled((first, second)), (first,), (first, second, second), ((), ()), ("far", first, second), (0, 0),
                 [first, second], (first, None), (None, second), (first, "x"), (second, ((1, 0, 0),) * 3),
             ]
-            for value in values:
-                if value is not None:
-                    self.assertIs(is_helpers(*arguments, value), False, value)
-            for value in [*junk(), 0, 7, (), ((),)]:
-                self.assertIs(is_helpers(*arguments, value), False, value)
+            check_judge(self, is_helpers, arguments, values)
+
+    def test_no_value_is_helpers_where_there_are_none(self):
+        for received, most in ((APART, 0), (((1, 1, 0), (1, 0, 0), (0, 0, 0)), 0)):
+            arguments = [F8, P4, 1, received, most]
+            self.assertIsNone(helpers(*arguments))
+            values = [
+                ("none",), (None,), (None, None), ((), ()), (((1, 0, 0),), ()), ((), ((1, 0, 0),)),
+                (((1, 0, 0),), ((1, 0, 0),)), "None",
+            ]
+            check_judge(self, is_helpers, arguments, values)
 
 
 class Helpers(unittest.TestCase):
@@ -266,7 +273,8 @@ class Helpers(unittest.TestCase):
         matrix = asked_matrix(own, points, size, received, most)
         full = len(own.echelon(matrix)) == 2 * most + 1 + size
         self.assertEqual(found is None, full)
-        self.assertIs(is_helpers(*arguments, None), full)
+        # Helpers are a pair, also where there are none.
+        self.assertIs(is_helpers(*arguments, None), False)
         if found is not None:
             self.assertEqual(len(found), 2)
             self.assertTrue(are_own_helpers(own, points, size, received, most, *found))
@@ -306,7 +314,6 @@ class Helpers(unittest.TestCase):
             self.assertTrue(self.check_helpers(own, points, size, received, most))
             # With as many coefficients as words have digits, and one more, N can be zero everywhere.
             self.assertFalse(self.check_helpers(own, points, own.m + 1 - most, received, most))
-
 
     def test_helpers_with_too_many_coefficients(self):
         own = OWN[2, 3]

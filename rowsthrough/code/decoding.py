@@ -161,10 +161,8 @@ def helpers(field, points, size, received, most):
 
 
 def is_helpers(field, points, size, received, most, value):
-    """Whether the value is helpers, or None, if there are none."""
+    """Whether the value is helpers."""
     question = asked(field, points, size, received, most)
-    if value is None:
-        return question.found_helpers() is None
     return are_helping(question, value)
 
 
