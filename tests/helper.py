@@ -3,9 +3,11 @@
 import ast
 import copy
 import itertools
+import random
 
 from rowsthrough import errors
 from rowsthrough.base.fields import Field
+from rowsthrough.net.nets import Net
 
 
 def deep(turns):
@@ -325,3 +327,149 @@ def random_rows(random, q, many, columns):
 
 def random_word_rows(random, q, m, many, columns):
     return tuple(random_words(random, q, m, columns) for _ in range(many))
+
+
+def wrong_nets():
+    return [*junk(), 0, 4, (4, ()), ((0, 1),), "net of 2 points, 0 links", [4, ()]]
+
+
+def wrong_fields():
+    return [*without(junk(), Field), 0, 2, (3, 2), (), "field of 2 to the power 1", [2, 1]]
+
+
+def wrong_bases():
+    return [*junk(), 0, 1, 4, 6, 9, 14, 17, "2", (2,), [2], 10 ** 59]
+
+
+def wrong_sizes():
+    """No sizes n."""
+    return [*junk(), 0, 7, 8, "1", (1,), [1], 10 ** 59]
+
+
+def wrong_numbers(high):
+    """No integers from 0 to `high`."""
+    return [*junk(), high + 1, high + 2, "0", (0,), [0], 10 ** 59]
+
+
+def wrong_points(net):
+    """No points of the net other than the source."""
+    return [*junk(), 0, net.points, net.points + 1, "1", (1,), [1], 10 ** 59]
+
+
+def wrong_sinks(net, right):
+    """No sinks of the net."""
+    return [
+        *junk(), 0, 1, (), *spoiled(right), (0,), (0, 1), (1, 1), (2, 1), (net.points,), (1, net.points), (right,), (-1, 1),
+        (1, 2, 3, 4, 5, 6, 7),
+    ]
+
+
+def wrong_lots(net, right):
+    """No ascending tuples of links."""
+    many = len(net.links)
+    return [*junk(), 0, 1, *spoiled(right), (many,), (0, many), (1, 0), (0, 0), (right, ), (-1,), (-1, 0), "01", (0, (1,))]
+
+
+def random_net(chance, points, many):
+    pairs = list(itertools.combinations(range(points), 2))
+    return Net(points, tuple(sorted(chance.choice(pairs) for _ in range(many))))
+
+
+def all_ways(net, begin, end):
+    """All ways, by going on from each link to all that begin where it ends."""
+    if begin == end:
+        return [()]
+    found = []
+    for index, (tail, head) in enumerate(net.links):
+        if tail == begin:
+            found.extend((index, *way) for way in all_ways(net, head, end))
+    return found
+
+
+def subsets(members):
+    for many in range(len(members) + 1):
+        yield from itertools.combinations(members, many)
+
+
+def drawn_nets(seed, most_links=20, most_points=10):
+    """Nets with parallel links, dead ends, points that nothing leads to, none or many links."""
+    chance = random.Random(seed)
+    shapes = [
+        (2, 0), (2, 1), (2, 5), (3, 3), (3, 6), (4, 0), (4, 4), (4, 7), (5, 5), (5, 8), (5, 12), (6, 7), (6, 10), (6, 16),
+        (7, 9), (7, 14), (8, 12), (8, 20), (9, 15), (10, 20), (10, 16), (10, 6),
+    ]
+    for points, many in shapes:
+        if many <= most_links and points <= most_points:
+            yield random_net(chance, points, many)
+
+
+def own_cut_links(net, cut):
+    return tuple(index for index, (tail, head) in enumerate(net.links) if tail in cut and head not in cut)
+
+
+def all_cuts(net, sink):
+    """All cuts for the sink."""
+    return [(0, *points) for points in subsets([point for point in range(1, net.points) if point != sink])]
+
+
+def least_number(net, sink):
+    """The least number of links of a cut, by trying all."""
+    return min(len(own_cut_links(net, cut)) for cut in all_cuts(net, sink))
+
+
+def random_link_code(chance, net, q, n, zeros=0):
+    """A link code, a number of which is zero once more in so many of ten tries."""
+    def number():
+        return 0 if chance.randrange(10) < zeros else chance.randrange(q)
+
+    heads = [head for _, head in net.links]
+    return tuple(tuple(number() for _ in range(heads.count(tail) if tail else n)) for tail, _ in net.links)
+
+
+def own_sum(q, numbers, words, many):
+    """The sum of the words of so many digits, each times its number."""
+    assert len(numbers) == len(words)
+    return tuple(sum(number * word[place] for number, word in zip(numbers, words)) % q for place in range(many))
+
+
+def own_carried(net, q, many, code, words, wrong=(), silent=()):
+    """What all links carry, link by link: words of so many digits."""
+    found, added = [], dict(wrong)
+    for index, (tail, _) in enumerate(net.links):
+        come = words if tail == 0 else [found[k] for k in range(index) if net.links[k][1] == tail]
+        word = own_sum(q, code[index], come, many)
+        if index in added:
+            word = tuple((a + b) % q for a, b in zip(word, added[index]))
+        found.append((0,) * many if index in silent else word)
+    return tuple(found)
+
+
+def own_units(many):
+    return tuple(tuple(int(i == j) for j in range(many)) for i in range(many))
+
+
+def own_vectors(net, q, n, code, silent=()):
+    return own_carried(net, q, n, code, own_units(n), (), silent)
+
+
+def own_into(net, point):
+    return tuple(index for index, (_, head) in enumerate(net.links) if head == point)
+
+
+def own_rows(net, q, n, code, point, silent=()):
+    found = own_vectors(net, q, n, code, silent)
+    return tuple(found[index] for index in own_into(net, point))
+
+
+def wrong_link_codes(net, q, code):
+    """No link codes of the size of this one over q."""
+    found = [*junk(), 0, 1, *spoiled(code), code[:-1], (*code, ()), (*code, (0,)), [*code], (code,), ("code", code)]
+    for index, numbers in enumerate(code):
+        for wrong in (numbers[:-1], (*numbers, 0), None, 0, list(numbers)):
+            if wrong != numbers:
+                found.append((*code[:index], wrong, *code[index + 1:]))
+        for place in range(len(numbers)):
+            for wrong in (q, -1, True, False, "0", (0,)):
+                spoilt = (*numbers[:place], wrong, *numbers[place + 1:])
+                found.append((*code[:index], spoilt, *code[index + 1:]))
+    return found

@@ -10,7 +10,9 @@ from rowsthrough.net.nets import (
     MOST_LINKS, MOST_POINTS, MOST_SINKS, Net, come_to, into, is_shore, is_way, leading, net_fault, number_of_ways,
     out_of, placed, way_or_shore, with_link, without_links,
 )
-from tests.helper import check_judge, check_parameters, junk, run_examples, spoiled, told, without
+from tests.helper import (
+    all_ways, check_judge, check_parameters, junk, random_net, run_examples, spoiled, subsets, told, without, wrong_nets,
+)
 
 EXAMPLES = """
 >>> DIAMOND = Net(4, ((0, 1), (0, 2), (1, 2), (1, 3), (2, 3)))
@@ -28,13 +30,8 @@ EXAMPLES = """
 DIAMOND = Net(4, ((0, 1), (0, 2), (1, 2), (1, 3), (2, 3)))
 PARALLEL = Net(3, ((0, 1), (0, 1), (0, 2), (1, 2), (1, 2), (1, 2)))
 BARE = Net(5, ())
-WRONG_NETS = [*without(junk(), Net), 0, 4, (4, ()), ((0, 1),), DIAMOND.links]
+WRONG_NETS = wrong_nets()
 WRONG_POINTS = [*junk(), 4, 5, 10 ** 59, (1,), "1", [1]]
-
-
-def random_net(chance, points, many):
-    pairs = list(itertools.combinations(range(points), 2))
-    return Net(points, tuple(sorted(chance.choice(pairs) for _ in range(many))))
 
 
 def some_nets():
@@ -43,22 +40,6 @@ def some_nets():
     for points, many in ((2, 3), (3, 2), (4, 6), (5, 7), (6, 9), (6, 20), (8, 12), (10, 20), (10, 9), (7, 4)):
         yield random_net(chance, points, many)
         yield random_net(chance, points, many)
-
-
-def all_ways(net, begin, end):
-    """All ways, by going on from each link to all that begin where it ends."""
-    if begin == end:
-        return [()]
-    found = []
-    for index, (tail, head) in enumerate(net.links):
-        if tail == begin:
-            found.extend((index, *way) for way in all_ways(net, head, end))
-    return found
-
-
-def subsets(members):
-    for many in range(len(members) + 1):
-        yield from itertools.combinations(members, many)
 
 
 def all_shores(net, begin, end):

@@ -99,9 +99,8 @@ def digits_field(q):
     return Field(q, 1)
 
 
-def answer_numbers(field, rows, side):
-    """The pair of the kind and of the numbers for rows of packed words and their side."""
-    many = columns_of(rows)
+def answer_numbers(field, rows, side, many):
+    """The pair of the kind and of the numbers for rows of so many packed words and their side."""
     found = solution_numbers(field, rows, side, many)
     if found is not None:
         return "solution", found
@@ -146,7 +145,7 @@ def kernel(q, rows):
 def solved(q, rows, side):
     """Any solution of the base rows with the side, or any bar."""
     need_base_sides(q, rows, side)
-    kind, numbers = answer_numbers(digits_field(q), rows, side)
+    kind, numbers = answer_numbers(digits_field(q), rows, side, columns_of(rows))
     return kind, tuple(numbers)
 
 
@@ -203,7 +202,7 @@ def word_kernel(field, rows):
 def word_solved(field, rows, side):
     """Any solution of the word rows with the side, or any bar."""
     need_word_sides(field, rows, side)
-    kind, numbers = answer_numbers(field, packed_rows(rows), packed_all(side))
+    kind, numbers = answer_numbers(field, packed_rows(rows), packed_all(side), columns_of(rows))
     return kind, unpacked_all(field, numbers)
 
 

@@ -4,6 +4,9 @@ A packed word is one integer: its digit i stands WIDTH * i bits up. The product 
 has the numbers of the product of the polynomials at its places, each one below 13 * 12 * 6 = 936. So more
 than a thousand products can be added up before any place flows over into the next one, and a sum
 of products is brought back to a word only once, by `settled`.
+
+A packed row is likewise one integer for a row of any number of base numbers; it is added up and multiplied by
+base numbers, and brought back by `evened`.
 """
 
 LIMIT = 10 ** 60
@@ -141,6 +144,41 @@ def unpacked(field, number):
 def unpacked_all(field, numbers):
     """The tuple of the words that are packed."""
     return tuple([unpacked(field, number) for number in numbers])
+
+
+def digits_of(many, number):
+    """The tuple of the digits of a packed row of so many."""
+    return tuple([(number >> (WIDTH * place)) & MASK for place in range(many)])
+
+
+def unit_rows(many):
+    """The packed rows of so many digits with one 1 each, ascending by its place."""
+    return [1 << (WIDTH * place) for place in range(many)]
+
+
+def evened(q, many, total):
+    """The packed row of so many digits for a sum of packed rows: each digit modulo q."""
+    number = 0
+    for place in range(0, WIDTH * many, WIDTH):
+        number = number | ((((total >> place) & MASK) % q) << place)
+    return number
+
+
+def parted_at(q, many, rows, place):
+    """The pair of a packed row with 1 at the place, and of all others, made zero there modulo q.
+
+    The first is None, and the rows stay, if all of them are zero there.
+    """
+    factors = [((row >> (WIDTH * place)) & MASK) % q for row in rows]
+    lead = 0
+    while lead < len(rows) and not factors[lead]:
+        lead = lead + 1
+    if lead == len(rows):
+        return None, rows
+    begun = evened(q, many, rows[lead] * _number_inverse(q, factors[lead]))
+    # The others stay sums: each turn adds less than 13 * 13 to a digit.
+    others = [row + ((q - factor) % q) * begun for row, factor in zip(rows, factors)]
+    return begun, others[:lead] + others[lead + 1:]
 
 
 def tidied(field, total):

@@ -65,6 +65,24 @@ def need_point(net, point):
         raise InvalidNumber(point)
 
 
+def need_sink(net, sink):
+    """Raise InvalidNumber unless this is a point of the net other than the source."""
+    if not is_from(sink, 1, net.points - 1):
+        raise InvalidNumber(sink)
+
+
+def need_sinks(net, sinks):
+    """Raise InvalidPoints unless these are sinks of the net."""
+    if not is_lot(sinks, net.points) or not 1 <= len(sinks) <= MOST_SINKS or 0 in sinks:
+        raise InvalidPoints("no ascending tuple of 1 to 6 points from 1 on")
+
+
+def need_lot(net, lot):
+    """Raise InvalidLinks unless this is an ascending tuple of links."""
+    if not is_lot(lot, len(net.links)):
+        raise InvalidLinks("no ascending tuple of links")
+
+
 def need_ends(net, begin, end):
     """Raise the first error unless these are a net and two points of it."""
     need_net(net)
@@ -171,8 +189,7 @@ def number_of_ways(net, begin, end):
 def without_links(net, lot):
     """The net without the links of the lot."""
     need_net(net)
-    if not is_lot(lot, len(net.links)):
-        raise InvalidLinks("no ascending tuple of links")
+    need_lot(net, lot)
     return Net(net.points, tuple([link for index, link in enumerate(net.links) if index not in lot]))
 
 

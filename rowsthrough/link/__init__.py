@@ -1,0 +1,1 @@
+"""Link codes, and one code for all sinks."""
