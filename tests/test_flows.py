@@ -31,13 +31,27 @@ PAIR = Net(7, ((0, 1), (0, 2), (1, 3), (1, 5), (2, 3), (2, 6), (3, 4), (4, 5), (
 DIAMOND = Net(4, ((0, 1), (0, 2), (1, 2), (1, 3), (2, 3)))
 PARALLEL = Net(3, ((0, 1), (0, 1), (0, 2), (1, 2), (1, 2), (1, 2)))
 BARE = Net(4, ())
-# The first way that is found has to be given up in part.
+# Of the two ways to point 3 or 4 in the middle one has to be given up, whichever is taken first.
 CROSSED = Net(6, ((0, 1), (0, 2), (1, 3), (1, 4), (2, 3), (3, 5), (4, 5)))
+TURNED = Net(6, ((0, 1), (0, 2), (1, 4), (2, 3), (2, 4), (3, 5), (4, 5)))
 FULL = Net(2, ((0, 1),) * 20)
 
 
+def layered_nets(seed):
+    """Nets in which ways that were found first often have to be given up in part."""
+    chance = random.Random(seed)
+    for points in (6, 7, 8, 9, 10) * 4:
+        middle = (points + 1) // 2
+        links = [(0, point) for point in range(1, middle) for _ in range(chance.choice((1, 1, 2)))]
+        links += [(point, points - 1) for point in range(middle, points - 1)]
+        pairs = [(one, other) for one in range(1, middle) for other in range(middle, points - 1)]
+        while len(links) < 20 and len(links) < 3 * points:
+            links.append(chance.choice(pairs))
+        yield Net(points, tuple(sorted(links)))
+
+
 def questions(seed):
-    for net in (PAIR, DIAMOND, PARALLEL, BARE, CROSSED, FULL, *drawn_nets(seed)):
+    for net in (PAIR, DIAMOND, PARALLEL, BARE, CROSSED, TURNED, FULL, *drawn_nets(seed), *layered_nets(seed)):
         for sink in range(1, net.points):
             yield net, sink
 

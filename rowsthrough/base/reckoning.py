@@ -164,21 +164,37 @@ def evened(q, many, total):
     return number
 
 
+def cleared_at(q, rows, begun, place):
+    """The packed rows, to each of which so much of the one with 1 at the place is added that it is zero there modulo q.
+
+    They stay sums: each turn adds less than 13 * 13 to a digit.
+    """
+    return [row + (-((row >> (WIDTH * place)) & MASK) % q) * begun for row in rows]
+
+
 def parted_at(q, many, rows, place):
-    """The pair of a packed row with 1 at the place, and of all others, made zero there modulo q.
+    """The pair of a packed row of so many digits with 1 at the place, and of all others, made zero there modulo q.
 
     The first is None, and the rows stay, if all of them are zero there.
     """
-    factors = [((row >> (WIDTH * place)) & MASK) % q for row in rows]
     lead = 0
-    while lead < len(rows) and not factors[lead]:
+    while lead < len(rows) and not ((rows[lead] >> (WIDTH * place)) & MASK) % q:
         lead = lead + 1
     if lead == len(rows):
         return None, rows
-    begun = evened(q, many, rows[lead] * _number_inverse(q, factors[lead]))
-    # The others stay sums: each turn adds less than 13 * 13 to a digit.
-    others = [row + ((q - factor) % q) * begun for row, factor in zip(rows, factors)]
-    return begun, others[:lead] + others[lead + 1:]
+    factor = _number_inverse(q, ((rows[lead] >> (WIDTH * place)) & MASK) % q)
+    begun = evened(q, many, rows[lead] * factor)
+    return begun, cleared_at(q, rows[:lead] + rows[lead + 1:], begun, place)
+
+
+def echelon_between(q, many, rows, begin, end):
+    """Packed rows, for all sums of multiples of these, whose digits from `begin` to before `end` are the echelon."""
+    found = []
+    for place in range(begin, end):
+        begun, rows = parted_at(q, many, rows, place)
+        if begun is not None:
+            found = cleared_at(q, found, begun, place) + [begun]
+    return [evened(q, many, row) for row in found]
 
 
 def tidied(field, total):
@@ -200,6 +216,16 @@ def settled(field, total):
         low = low + ((high & MASK) % field.q) * fold
         high = high >> WIDTH
     return tidied(field, low)
+
+
+def mixed(field, numbers, words):
+    """The sum of the packed words, each times its base number."""
+    return tidied(field, sum([number * word for number, word in zip(numbers, words)]))
+
+
+def brought(field, rows, vectors):
+    """For each row of packed words their sums, the words taken as often as each of the vectors tells."""
+    return [[mixed(field, vector, row) for vector in vectors] for row in rows]
 
 
 def less(field, one, other):

@@ -146,20 +146,16 @@ def needed_links(net, sink):
     need_net(net)
     need_sink(net, sink)
     lot = flow_of(net, sink, MOST_LINKS)[1]
-    # The way through a link can be led around it just if other steps lead from its tail to its head.
-    return tuple([
-        index for index, (tail, head) in enumerate(net.links)
-        if index in lot and head not in steps_from(net, tail, lot)
-    ])
+    # What goes through a link can be led around it just if other steps lead from its tail to its head.
+    return tuple([index for index, (tail, head) in enumerate(net.links) if head not in steps_from(net, tail, lot)])
 
 
 def is_flow(net, sink, lot):
     """Whether the lot is a flow for the sink."""
     more = [0] * net.points
     for index in lot:
+        # What went out of the sink would be lost at a point behind it, as none leads back.
         tail, head = net.links[index]
-        if tail == sink:
-            return False
         more[tail] = more[tail] - 1
         more[head] = more[head] + 1
     return not any([more[point] for point in range(1, net.points) if point != sink])

@@ -1,0 +1,1 @@
+"""Wrong and silent links, and what a sink can tell."""
