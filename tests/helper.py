@@ -473,3 +473,59 @@ def wrong_link_codes(net, q, code):
                 spoilt = (*numbers[:place], wrong, *numbers[place + 1:])
                 found.append((*code[:index], spoilt, *code[index + 1:]))
     return found
+
+
+def random_code(chance, net, q, m, n, many, messages, zeros=0):
+    """A code with so many rows of n words, the first ones for so many message words."""
+    mixing = random_link_code(chance, net, q, n, zeros)
+    return Field(q, m), mixing, random_word_rows(chance, q, m, many, n), messages
+
+
+def own_sink_words(net, code, sink, silent):
+    """For each row the words on the links into the sink if its word alone is sent, and is one."""
+    field, mixing, rows, _ = code
+    links = own_into(net, sink)
+    found = [own_carried(net, field.q, field.m, mixing, row, (), silent) for row in rows]
+    return tuple(tuple(words[link] for link in links) for words in found)
+
+
+def own_transfers(net, code, sink, silent, lot):
+    """For each link of the lot how many times a word added there is heard on each link into the sink."""
+    field, mixing, rows, _ = code
+    links, nought, found = own_into(net, sink), ((0,),) * len(rows[0]), []
+    for link in lot:
+        words = own_carried(net, field.q, 1, mixing, nought, ((link, (1,)),), silent)
+        found.append(tuple(words[into][0] for into in links))
+    return tuple(found)
+
+
+def own_source(own, code, message, drawn):
+    """The source words."""
+    columns = zip(*code[2])
+    return tuple(own.dot(column, (*message, *drawn)) for column in columns)
+
+
+def own_heard(own, net, code, sink, silent, sending):
+    """The words that are heard on the links into the sink, link by link."""
+    message, drawn, wrong = sending
+    words = own_carried(net, own.q, own.m, code[1], own_source(own, code, message, drawn), wrong, silent)
+    return tuple(words[link] for link in own_into(net, sink))
+
+
+def wrong_codes(net, code):
+    """No codes for the net, near this one."""
+    field, mixing, rows, messages = code
+    found = [*junk(), 0, 1, (), code[:3], (*code, 0), list(code), (code,), ("plan", code), *spoiled(code)]
+    found += [(value, mixing, rows, messages) for value in wrong_fields()[::3]]
+    found += [(field, value, rows, messages) for value in wrong_link_codes(net, field.q, mixing)[::3]]
+    found += [(field, mixing, rows, value) for value in [*junk(), 0, len(rows) + 1, "1", (1,), -1]]
+    other = Field(field.q, field.m % 6 + 1)
+    wide = [(*row, row[0]) for row in rows]
+    wrong = [
+        (), (rows[0],) * 13, (*rows, wide[0]), tuple(wide), tuple(row[:-1] for row in rows), list(rows), rows[0], (rows,),
+        ((other.zero,) * len(rows[0]),), (*rows, (other.one,) * len(rows[0])), ((),), ((field.zero,) * 7,), (*rows, ()),
+        (((field.q,) * field.m,) * len(rows[0]),),
+    ]
+    found += [(field, mixing, value, 1) for value in wrong]
+    found.append((other, mixing, rows, messages))
+    return found
