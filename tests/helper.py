@@ -529,3 +529,95 @@ def wrong_codes(net, code):
     found += [(field, mixing, value, 1) for value in wrong]
     found.append((other, mixing, rows, messages))
     return found
+
+
+KNOWN = {}
+
+
+def own_field(q, m):
+    """The tests' own arithmetic, made once for each field."""
+    if (q, m) not in KNOWN:
+        KNOWN[q, m] = Own(q, m)
+    return KNOWN[q, m]
+
+
+def own_of(code):
+    return own_field(code[0].q, code[0].m)
+
+
+def choices(net, t, s):
+    many = len(net.links)
+    for silent in itertools.combinations(range(many), min(s, many)):
+        others = [link for link in range(many) if link not in silent]
+        for lot in itertools.combinations(others, min(2 * t, len(others))):
+            yield silent, lot
+
+
+def asked_rows(net, code, sink, silent, lot):
+    """What a reader's words have to bring, as rows of words: those of the code's rows, and of the lot."""
+    own = own_of(code)
+    lifted = [
+        tuple((number,) + (0,) * (own.m - 1) for number in row) for row in own_transfers(net, code, sink, silent, lot)
+    ]
+    return [*own_sink_words(net, code, sink, silent), *lifted]
+
+
+def has_reader(net, code, sink, silent, lot):
+    """By ranks: the sides do not raise the rank of the rows."""
+    own, rows = own_of(code), asked_rows(net, code, sink, silent, lot)
+    sides = [
+        tuple(own.one if place == index else own.zero for index in range(code[3])) for place in range(len(rows))
+    ]
+    wide = [(*row, *side) for row, side in zip(rows, sides)]
+    return len(own.echelon(wide)) == len(own.echelon(rows))
+
+
+def own_sendings(own, net, code, silent, t):
+    """All sendings with at most t wrong links, none with the zero word."""
+    words, many = own.words(), len(code[2])
+    nonzero = [word for word in words if word != own.zero]
+    others = [link for link in range(len(net.links)) if link not in silent]
+    for some in itertools.product(words, repeat=many):
+        for number in range(t + 1):
+            for lot in itertools.combinations(others, number):
+                for added in itertools.product(nonzero, repeat=number):
+                    yield some[:code[3]], some[code[3]:], tuple(zip(lot, added))
+
+
+def tells_by_all_sendings(own, net, code, sink, t, s):
+    for silent in subsets(range(len(net.links))):
+        if len(silent) <= s:
+            messages = {}
+            for sending in own_sendings(own, net, code, silent, t):
+                heard = own_heard(own, net, code, sink, silent, sending)
+                if messages.setdefault(heard, sending[0]) != sending[0]:
+                    return False
+    return True
+
+
+def own_tapped(net, code, lot):
+    """What each row brings alone on the links of the lot, link by link."""
+    field, mixing, rows, messages = code
+    found = [own_carried(net, field.q, field.m, mixing, row) for row in rows]
+    tapped = tuple(tuple(words[link] for link in lot) for words in found)
+    return tapped[:messages], tapped[messages:]
+
+
+def own_hides(net, code, lot):
+    """By ranks: the message rows are sums of drawn rows, each times a word."""
+    own, (message, drawn) = own_of(code), own_tapped(net, code, lot)
+    return len(own.echelon([*drawn, *message])) == len(own.echelon(drawn))
+
+
+def own_lots(net, k):
+    return list(itertools.combinations(range(len(net.links)), min(k, len(net.links))))
+
+
+def own_shares(net, code, lot, message):
+    """By trying all drawn words."""
+    own, found = own_of(code), {}
+    for drawn in itertools.product(own.words(), repeat=len(code[2]) - code[3]):
+        words = own_carried(net, own.q, own.m, code[1], own_source(own, code, message, drawn))
+        key = tuple(words[link] for link in lot)
+        found[key] = found.get(key, 0) + 1
+    return found

@@ -16,9 +16,9 @@ from rowsthrough.bent.telling import (
 from rowsthrough.net import nets
 from rowsthrough.net.nets import Net
 from tests.helper import (
-    Own, check_judge, check_parameters, drawn_nets, junk, own_heard, own_into, own_sink_words, own_transfers,
-    pairs_of, random_code, random_words, run_examples, spoiled, subsets, told, wrong_codes,
-    wrong_lots, wrong_nets, wrong_numbers, wrong_points,
+    asked_rows, check_judge, check_parameters, choices, drawn_nets, has_reader, junk, own_field, own_heard, own_into,
+    own_of, own_sendings, own_sink_words, own_transfers, pairs_of, random_code, random_words, run_examples, spoiled,
+    subsets, tells_by_all_sendings, told, wrong_codes, wrong_lots, wrong_nets, wrong_numbers, wrong_points,
 )
 
 EXAMPLES = """
@@ -42,42 +42,6 @@ BARE = Net(4, ())
 WIDE = Net(2, ((0, 1),) * 5)
 # The codes over it are sent along all links, and one link more.
 LINE = Net(3, ((0, 1), (0, 1), (0, 1), (1, 2), (1, 2), (1, 2)))
-OWN = {kind: Own(*kind) for kind in ((2, 1), (2, 2), (2, 3), (3, 1), (3, 2), (5, 1), (5, 2), (7, 1), (2, 6), (13, 2), (11, 1))}
-
-
-def own_of(code):
-    return OWN[code[0].q, code[0].m]
-
-
-def choices(net, t, s):
-    many = len(net.links)
-    for silent in itertools.combinations(range(many), min(s, many)):
-        others = [link for link in range(many) if link not in silent]
-        for lot in itertools.combinations(others, min(2 * t, len(others))):
-            yield silent, lot
-
-
-def asked_rows(net, code, sink, silent, lot):
-    """What a reader's words have to bring, as rows of words: those of the code's rows, and of the lot."""
-    own = own_of(code)
-    lifted = [
-        tuple((number,) + (0,) * (own.m - 1) for number in row) for row in own_transfers(net, code, sink, silent, lot)
-    ]
-    return [*own_sink_words(net, code, sink, silent), *lifted]
-
-
-def has_reader(net, code, sink, silent, lot):
-    """By ranks: the sides do not raise the rank of the rows."""
-    own, rows = own_of(code), asked_rows(net, code, sink, silent, lot)
-    sides = [
-        tuple(own.one if place == index else own.zero for index in range(code[3])) for place in range(len(rows))
-    ]
-    wide = [(*row, *side) for row, side in zip(rows, sides)]
-    return len(own.echelon(wide)) == len(own.echelon(rows)) and not has_late_lead(own, wide, len(rows[0]))
-
-
-def has_late_lead(own, wide, many):
-    return any(all(word == own.zero for word in row[:many]) for row in own.echelon(wide))
 
 
 def is_own_reader(net, code, sink, silent, lot, reader):
@@ -93,29 +57,6 @@ def is_own_mixed(net, code, sink, silent, lot, message, drawn, added):
     own = own_of(code)
     heard = own_heard(own, net, code, sink, silent, (message, drawn, tuple(zip(lot, added))))
     return any(word != own.zero for word in message) and all(word == own.zero for word in heard)
-
-
-def own_sendings(own, net, code, silent, t):
-    """All sendings with at most t wrong links, none with the zero word."""
-    words, many = own.words(), len(code[2])
-    nonzero = [word for word in words if word != own.zero]
-    others = [link for link in range(len(net.links)) if link not in silent]
-    for some in itertools.product(words, repeat=many):
-        for number in range(t + 1):
-            for lot in itertools.combinations(others, number):
-                for added in itertools.product(nonzero, repeat=number):
-                    yield some[:code[3]], some[code[3]:], tuple(zip(lot, added))
-
-
-def tells_by_all_sendings(own, net, code, sink, t, s):
-    for silent in subsets(range(len(net.links))):
-        if len(silent) <= s:
-            messages = {}
-            for sending in own_sendings(own, net, code, silent, t):
-                heard = own_heard(own, net, code, sink, silent, sending)
-                if messages.setdefault(heard, sending[0]) != sending[0]:
-                    return False
-    return True
 
 
 def questions(seed, most_links=12):
@@ -407,7 +348,7 @@ class AllChoices(unittest.TestCase):
                             seen.add((right, t, s))
         self.assertEqual({entry[0] for entry in seen}, {True, False})
         for t, s, right in ((1, 0, True), (0, 2, True), (1, 1, False), (0, 3, False), (2, 0, False)):
-            self.assertIs(tells_by_all_sendings(OWN[2, 1], THREE, SAID, 1, t, s), right)
+            self.assertIs(tells_by_all_sendings(own_field(2, 1), THREE, SAID, 1, t, s), right)
             self.assertIs(does_tell(THREE, SAID, 1, t, s), right)
 
     def test_readers_in_another_sequence(self):
@@ -422,7 +363,7 @@ class AllChoices(unittest.TestCase):
             self.assertIs(is_telling(THREE, SAID, 1, 0, 2, ("tells", some)), right)
 
     def test_all_sendings_judged(self):
-        own, seen = OWN[2, 1], set()
+        own, seen = own_field(2, 1), set()
         for t, s in ((1, 0), (1, 1), (0, 2), (0, 3)):
             for silent in subsets(range(3)):
                 sendings = list(own_sendings(own, THREE, SAID, (), 2))
