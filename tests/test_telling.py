@@ -92,6 +92,8 @@ class Codes(unittest.TestCase):
                 self.assertIs(is_code(THREE, (field, code[1], (((1, 1),) * other,), 1)), n == other)
         self.assertIs(is_code(BARE, (field, (), rows, 1)), True)
         self.assertIs(is_code(BARE, (field, (), ((field.one,) * 7,), 1)), False)
+        self.assertIs(is_code(BARE, (field, (), ((),), 1)), False)
+        self.assertIs(is_code(THREE, (field, ((), (), ()), ((),), 1)), False)
         self.assertIs(is_code(THREE, DRAWN), False)
 
     def test_values_of_any_kind(self):

@@ -218,8 +218,6 @@ def does_tell(net, code, sink, t, s):
 
 def most_wrong(net, code, sink, s):
     """The greatest t up to 6 with which the code tells the sink; None if there is none."""
-    need_told(net, code, sink)
-    need_number(s, 0, MOST_BENT)
     found = None
     for t in range(MOST_BENT + 1):
         if not does_tell(net, code, sink, t, s):

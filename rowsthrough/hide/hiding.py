@@ -50,7 +50,7 @@ def tapped_rows(net, code, lot):
     need_tapped(net, code, lot)
     tap = Tap(net, code)
     vectors = tap.vectors_of(lot)
-    message, drawn = brought(tap.field, tap.messages, vectors), brought(tap.field, tap.drawn, vectors)
+    message, drawn = brought(tap.field, tap.message_rows, vectors), brought(tap.field, tap.drawn_rows, vectors)
     return unpacked_rows(tap.field, message), unpacked_rows(tap.field, drawn)
 
 
@@ -127,13 +127,13 @@ def other_drawn(net, code, lot, message, drawn, other):
     need_tapped(net, code, lot)
     tap = Tap(net, code)
     field = tap.field
-    need_words(field, len(tap.messages), message)
-    need_words(field, len(tap.drawn), drawn)
-    need_words(field, len(tap.messages), other)
+    need_words(field, len(tap.message_rows), message)
+    need_words(field, len(tap.drawn_rows), drawn)
+    need_words(field, len(tap.message_rows), other)
     missing = [less(field, one, two) for one, two in zip(packed_all(message), packed_all(other))]
     vectors = tap.vectors_of(lot)
-    side = brought(field, row_products(field, [missing], tap.messages), vectors)[0]
-    rows = [[mixed(field, vector, row) for row in tap.drawn] for vector in vectors]
+    side = brought(field, row_products(field, [missing], tap.message_rows), vectors)[0]
+    rows = [[mixed(field, vector, row) for row in tap.drawn_rows] for vector in vectors]
     more = solution_numbers(field, rows, side, len(drawn))
     if more is None:
         raise Refused(("leak",))
@@ -145,14 +145,14 @@ def shares(net, code, lot, message):
     need_tapped(net, code, lot)
     tap = Tap(net, code)
     field, vectors = tap.field, tap.vectors_of(lot)
-    need_words(field, len(tap.messages), message)
-    if number_power(field.size, len(tap.drawn)) > MOST_CHOICES:
+    need_words(field, len(tap.message_rows), message)
+    if number_power(field.size, len(tap.drawn_rows)) > MOST_CHOICES:
         raise TooMany(MOST_CHOICES)
-    found = brought(field, row_products(field, [packed_all(message)], tap.messages), vectors)
-    independent = reduced(field, brought(field, tap.drawn, vectors))
+    found = brought(field, row_products(field, [packed_all(message)], tap.message_rows), vectors)
+    independent = reduced(field, brought(field, tap.drawn_rows, vectors))
     for _, row in independent:
         found = [summed_rows(field, one, other) for one in found for other in multiples(field, row)]
-    times = number_power(field.size, len(tap.drawn) - len(independent))
+    times = number_power(field.size, len(tap.drawn_rows) - len(independent))
     return {key: times for key in sorted(unpacked_rows(field, found))}
 
 

@@ -16,8 +16,8 @@ class Tap:
         numbers = packed_rows(rows)
         self.field = field
         self.n = len(rows[0])
-        self.messages = numbers[:messages]
-        self.drawn = numbers[messages:]
+        self.message_rows = numbers[:messages]
+        self.drawn_rows = numbers[messages:]
         self.vectors = vector_rows(net, field.q, self.n, mixing, ())
         # What is hidden hangs on the vectors alone that can be made of those of a lot.
         self.spans = {}
@@ -48,9 +48,9 @@ class Tap:
 
     def worked_out(self, basis):
         """What `answer` tells for these vectors."""
-        drawn, hiders = brought(self.field, self.drawn, basis), []
+        drawn, hiders = brought(self.field, self.drawn_rows, basis), []
         columns = [[row[place] for row in drawn] for place in range(len(basis))]
-        for row in brought(self.field, self.messages, basis):
+        for row in brought(self.field, self.message_rows, basis):
             kind, numbers = answer_numbers(self.field, columns, row, len(drawn))
             if kind == "barred":
                 return "leak", numbers
@@ -87,9 +87,9 @@ class Tap:
 
     def are_hiders(self, lot, value):
         """Whether the value is hiders of the lot."""
-        if not isinstance(value, tuple) or len(value) != len(self.messages):
+        if not isinstance(value, tuple) or len(value) != len(self.message_rows):
             return False
-        if not all([are_so_many_words(self.field, len(self.drawn), row) for row in value]):
+        if not all([are_so_many_words(self.field, len(self.drawn_rows), row) for row in value]):
             return False
         if value not in self.judged:
             self.judged[value] = self.hidden_links(packed_rows(value))
@@ -98,8 +98,8 @@ class Tap:
     def hidden_links(self, hiders):
         """For each link whether the packed rows are hiders of it: of a lot they are if they are of each link."""
         field, missing = self.field, []
-        columns = [[row[place] for row in self.drawn] for place in range(self.n)]
-        for row, message in zip(hiders, self.messages):
+        columns = [[row[place] for row in self.drawn_rows] for place in range(self.n)]
+        for row, message in zip(hiders, self.message_rows):
             made = [summed(field, row, column) for column in columns]
             missing.append([less(field, one, other) for one, other in zip(made, message)])
         vectors = [digits_of(self.n, vector) for vector in self.vectors]
@@ -112,6 +112,6 @@ class Tap:
         vectors, numbers = self.vectors_of(lot), packed_all(value)
         # What the combination makes of the source words: a packed word for each of them.
         made = [mixed(self.field, [vector[place] for vector in vectors], numbers) for place in range(self.n)]
-        if any([summed(self.field, row, made) for row in self.drawn]):
+        if any([summed(self.field, row, made) for row in self.drawn_rows]):
             return False
-        return any([summed(self.field, row, made) for row in self.messages])
+        return any([summed(self.field, row, made) for row in self.message_rows])
