@@ -212,12 +212,10 @@ class OneLot(unittest.TestCase):
         leak = ((0, 1), (0, 1))
         self.assertIs(is_hiders_or_leak(TWO, SHARED, (0, 1), ("leak", leak)), True)
         values = [
-            *pairs_of("hides", "leak")[1:], *[("leak", value) for value in spoiled(leak)], leak, ["leak", leak], ("hides", leak),
+            *pairs_of("hides", "leak"), *[("leak", value) for value in spoiled(leak)], leak, ["leak", leak], ("hides", leak),
             ("leak", leak, ()), ("leak", (*leak, (0, 0))), ("leak", leak[:1]), ("leak", ((0, 0), (0, 0))), ("leak", ((0, 1), (1, 0))),
             ("leak", ((2, 0), (0, 1))), ("leak", (0, 1), leak), ("leak", (0, 1)),
         ]
-        values = [value for value in values if value != ("leak", ((1, 0), (1, 0))) and value != ("leak", ((1, 1), (1, 1)))]
-        values = [value for value in values if value != ("leak", ((1, 0), (0, 1)))]
         check_judge(self, is_hiders_or_leak, [TWO, SHARED, (0, 1)], values)
 
     def test_wrong_arguments(self):
@@ -278,13 +276,11 @@ class AnyLinks(unittest.TestCase):
             self.assertEqual(most_hidden(net, code), right)
             seen.add(right)
         self.assertTrue({None, 0, 1, 2} <= seen)
-        field = Field(13, 2)
         for many, drawn in ((6, 5), (6, 4), (9, 3)):
             net = Net(2, ((0, 1),) * many)
             code = random_code(chance, net, 13, 2, 6, drawn + 1, 1)
-            if does_tell(net, code, 1, 0, 0):
-                self.assertLessEqual(most_hidden(net, code), drawn)
-            self.assertEqual(code[0], field)
+            self.assertIs(does_tell(net, code, 1, 0, 0), True)
+            self.assertLessEqual(most_hidden(net, code), drawn)
 
     def test_all_links_with_many_of_them(self):
         """Neither the greatest k nor that all are hidden takes more lots than can be looked at."""
@@ -310,7 +306,7 @@ class AnyLinks(unittest.TestCase):
                     checked += 1
         self.assertGreater(checked, 10)
 
-    def test_readers_of_other_lots(self):
+    def test_hiders_of_other_lots(self):
         kind, rows = hiding(FOUR, SPLIT, 2)
         self.assertEqual((kind, len(rows)), ("hides", 6))
         for first, second in itertools.combinations(range(6), 2):

@@ -50,8 +50,8 @@ class Tap:
         """What `answer` tells for these vectors."""
         drawn, hiders = brought(self.field, self.drawn_rows, basis), []
         columns = [[row[place] for row in drawn] for place in range(len(basis))]
-        for row in brought(self.field, self.message_rows, basis):
-            kind, numbers = answer_numbers(self.field, columns, row, len(drawn))
+        for side in brought(self.field, self.message_rows, basis):
+            kind, numbers = answer_numbers(self.field, columns, side, len(drawn))
             if kind == "barred":
                 return "leak", numbers
             hiders.append(unpacked_all(self.field, numbers))
@@ -99,8 +99,8 @@ class Tap:
         """For each link whether the packed rows are hiders of it: of a lot they are if they are of each link."""
         field, missing = self.field, []
         columns = [[row[place] for row in self.drawn_rows] for place in range(self.n)]
-        for row, message in zip(hiders, self.message_rows):
-            made = [summed(field, row, column) for column in columns]
+        for hider, message in zip(hiders, self.message_rows):
+            made = [summed(field, hider, column) for column in columns]
             missing.append([less(field, one, other) for one, other in zip(made, message)])
         vectors = [digits_of(self.n, vector) for vector in self.vectors]
         return [not any([mixed(field, vector, row) for row in missing]) for vector in vectors]
