@@ -289,7 +289,7 @@ class Helpers(unittest.TestCase):
 
     def test_where_several_can_be_near(self):
         seen = set()
-        for question in questions(((2, 1), (2, 2), (2, 3), (3, 2), (2, 5)), (1, 2, 3, 6), (0, 1, 2, 3, 6), False):
+        for question in questions(((2, 1), (2, 2), (2, 3), (3, 2), (2, 5)), (1, 2, 6), (0, 1, 2, 6), False):
             seen.add(self.check_helpers(*question))
         self.assertIn(False, seen)
 
