@@ -370,6 +370,16 @@ def wrong_lots(net, right):
     return [*junk(), 0, 1, *spoiled(right), (many,), (0, many), (1, 0), (0, 0), (right, ), (-1,), (-1, 0), "01", (0, (1,))]
 
 
+def wrong_wrongs(net, field, right):
+    """No wrong links of the net with words of the field."""
+    one, many = (1,) * field.m, len(net.links)
+    return [
+        *junk(), 0, 1, *spoiled(right), (1, one), ((1,),), ((1, one, 0),), ((1, one + (0,)),), ((1, one[1:]),),
+        ((1, one[1:] + (field.q,)),), ((many, one),), ((-1, one),), ((1, one), (0, one)), ((1, one), (1, one)), ((one, 1),),
+        ([1, one],), ((1, list(one)),), ((True, one),), ((1, (True,) + one[1:]),), (right,), (one,), ((1, None),),
+    ]
+
+
 def random_net(chance, points, many):
     pairs = list(itertools.combinations(range(points), 2))
     return Net(points, tuple(sorted(chance.choice(pairs) for _ in range(many))))

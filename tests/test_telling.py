@@ -17,7 +17,7 @@ from rowsthrough.net import nets
 from rowsthrough.net.nets import Net
 from tests.helper import (
     asked_rows, check_judge, check_parameters, choices, drawn_nets, has_reader, junk, own_field, own_heard, own_into,
-    own_of, own_sendings, own_sink_words, own_transfers, pairs_of, random_code, random_words, run_examples, spoiled,
+    own_of, own_sendings, own_sink_words, pairs_of, random_code, random_words, run_examples, spoiled,
     subsets, tells_by_all_sendings, told, wrong_codes, wrong_lots, wrong_nets, wrong_numbers, wrong_points,
 )
 

@@ -17,7 +17,7 @@ from rowsthrough.net.nets import Net
 from tests.helper import (
     Own, check_judge, check_parameters, drawn_nets, junk, own_carried, own_rank, own_sum, own_vectors,
     random_link_code, random_words, run_examples, spoiled, subsets, told, wrong_bases, wrong_fields, wrong_link_codes,
-    wrong_lots, wrong_nets, wrong_sizes,
+    wrong_lots, wrong_nets, wrong_sizes, wrong_wrongs,
 )
 
 EXAMPLES = """
@@ -55,16 +55,6 @@ def questions(seed):
                 yield net, q, m, n, code, random_words(chance, q, m, n), pairs, tuple(sorted(bent[number:]))
 
 
-def wrong_wrongs(right):
-    """No wrong links of the net LINE with words of F4."""
-    return [
-        *junk(), 0, 1, *spoiled(right), (1, (1, 1)), ((1,),), ((1, (1, 1), 0),), ((1, (1,)),), ((1, (1, 1, 0)),),
-        ((1, (2, 0)),), ((4, (1, 1)),), ((-1, (1, 1)),), ((2, (0, 1)), (1, (1, 1))), ((1, (1, 1)), (1, (1, 1))),
-        (((1, 1), 1),), ([1, (1, 1)],), ((1, [1, 1]),), ((True, (1, 1)),), ((1, (True, 0)),), (right,), ((1, 1),),
-        ((1, (0, 0)), (1, (0, 0))),
-    ]
-
-
 class Examples(unittest.TestCase):
     def test_examples(self):
         run_examples(self, EXAMPLES, {**vars(nets), **vars(fields), **vars(wrong)})
@@ -82,7 +72,7 @@ class Judges(unittest.TestCase):
 
     def test_values_of_any_kind(self):
         self.assertIs(is_wrong(LINE, F4, WRONG), True)
-        for value in wrong_wrongs(WRONG):
+        for value in wrong_wrongs(LINE, F4, WRONG):
             self.assertIs(is_wrong(LINE, F4, value), False, value)
         self.assertIs(is_wrong(LINE, Field(2, 3), WRONG), False)
         self.assertIs(is_wrong(LINE, Field(3, 2), WRONG), True)
@@ -160,7 +150,7 @@ class Bent(unittest.TestCase):
         words = [
             (errors.InvalidWord, [*junk(), 0, (), *spoiled(GIVEN), GIVEN[:1], (*GIVEN, (0, 0)), ((2, 0), (0, 1)), (GIVEN,)]),
         ]
-        pairs = [(errors.InvalidLinks, wrong_wrongs(WRONG))]
+        pairs = [(errors.InvalidLinks, wrong_wrongs(LINE, F4, WRONG))]
         lots = [(errors.InvalidLinks, wrong_lots(LINE, silent))]
         check_parameters(self, bent_words, [LINE, F4, 2, MIX, GIVEN, WRONG, silent], [*wrong_code, *words, *pairs, *lots])
         check_parameters(self, added_words, [LINE, F4, 2, MIX, WRONG, silent], [*wrong_code, *pairs, *lots])

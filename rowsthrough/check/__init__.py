@@ -1,0 +1,1 @@
+"""Claims and their checker."""

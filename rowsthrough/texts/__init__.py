@@ -1,0 +1,1 @@
+"""Texts of nets, codes and bent links."""
