@@ -508,6 +508,15 @@ class Gain(unittest.TestCase):
             told(self, function, [FULL, (2,), 0, 1, *further], errors.InvalidPoints)
 
 
+class TrueIsNotOne(unittest.TestCase):
+    def test_sinks_of_papers(self):
+        self.assertIs(is_loss(THREE, (1,), 0, ("falls", 1, (0,))), True)
+        self.assertIs(is_loss(THREE, (1,), 0, ("falls", True, (0,))), False)
+        net = Net(3, ((0, 1), (1, 2)))
+        self.assertIs(is_gain(net, (1,), 1, 2, ("stays", 1, (0,))), True)
+        self.assertIs(is_gain(net, (1,), 1, 2, ("stays", True, (0,))), False)
+
+
 class NoneIsTrue(unittest.TestCase):
     """[16.6]"""
 

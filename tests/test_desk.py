@@ -482,6 +482,7 @@ class TwinsAndEquals(Compared):
     def test_equal_desks(self):
         net, again = Net(2, ((0, 1),)), Net(2, ((0, 1),))
         self.assertTrue(Desk(net) == Desk(again))
+        self.assertFalse(Desk(net) == Desk(Net(3, ((0, 1),))) or Desk(net) == Desk(Net(2, ())))
         one, other = Desk(net), Desk(net)
         one.edit((("put", 0, 1),))
         self.assertTrue(one != other and not one == other)

@@ -105,7 +105,7 @@ def opposite(claim):
 def takes(claim, paper):
     """Whether the paper is one for the claim."""
     need_claim(claim)
-    if not isinstance(paper, tuple) or not paper or not isinstance(paper[0], str):
+    if not isinstance(paper, tuple) or not paper:
         return False
     kind, members = claim[0], claim[1:]
     return paper[0] in KINDS[kind][2] and judged(kind, members, paper)

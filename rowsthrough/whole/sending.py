@@ -83,9 +83,6 @@ class Hearing:
         """What `two_of` tells; the sums have the numbers of vectors, then the digits of words."""
         n, listener = self.ear.n, self.listener
         vectors, sides = [digits_of(n, one) for one in sums], [one >> (WIDTH * n) for one in sums]
-        # No word but zero is heard along a vector of zeros.
-        if not all([any(vector) for vector in vectors]):
-            return ()
         columns = brought(self.field, listener.rows, vectors)
         asked = [[column[place] for column in columns] for place in range(len(vectors))]
         numbers = solution_numbers(self.field, asked, sides, len(columns))
@@ -105,7 +102,7 @@ class Hearing:
         words, messages = unpacked_all(self.field, numbers), self.listener.messages
         return "fits", words[:messages], words[messages:], wrong
 
-    def size(self, t):
+    def size_of_lots(self, t):
         """How many links the lots have that are to be looked at."""
         return min(t, len(self.others))
 
@@ -188,7 +185,7 @@ def fitting(net, code, sink, t, silent, words):
     need_reading(net, code, sink, t)
     need_fitting(net, code, sink, t, silent, words)
     hearing = Hearing(Listener(net, code, sink), silent, words)
-    found = hearing.fits(hearing.size(t), 1)
+    found = hearing.fits(hearing.size_of_lots(t), 1)
     if not found:
         return ("none",)
     return hearing.fit_of(found[0][0], found[0][1])
@@ -210,7 +207,7 @@ def is_fitting(net, code, sink, t, silent, words, value):
 def messages_read(listener, t, silent, words):
     """At most two unlike messages that fit."""
     hearing = Hearing(listener, silent, words)
-    found = hearing.fits(hearing.size(t), 2)
+    found = hearing.fits(hearing.size_of_lots(t), 2)
     return [unpacked_all(listener.field, numbers[:listener.messages]) for _, numbers in found]
 
 
