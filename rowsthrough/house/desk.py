@@ -70,7 +70,7 @@ class Watch:
     def answer(self, net):
         """The answer for the net."""
         most = room(net, self.sinks)
-        return "kept" if size_of(self.numbers) <= most else "barred", most
+        return ("kept" if size_of(self.numbers) <= most else "barred"), most
 
     def paper(self, net):
         """A code that keeps the numbers in the net, or a cut that bars them."""

@@ -28,14 +28,9 @@ def need_parted(field, r):
     need_number(r, 1, MOST_ROWS)
 
 
-def are_members(value, many):
-    """Whether the value is a tuple of so many members."""
-    return isinstance(value, tuple) and len(value) == many
-
-
 def need_members(value, many):
     """Raise InvalidOperation unless this is a tuple of so many members."""
-    if not are_members(value, many):
+    if not isinstance(value, tuple) or len(value) != many:
         raise InvalidOperation("no tuple with a member for each part")
 
 
@@ -43,6 +38,14 @@ def need_few_members(value):
     """Raise InvalidOperation unless this is a tuple of not too many members."""
     if not isinstance(value, tuple) or len(value) > MOST_PARTS:
         raise InvalidOperation("no tuple of at most so many members")
+
+
+def need_some_words(field, r, parts):
+    """Raise InvalidWord unless this is a tuple of not too many tuples of r words."""
+    if not isinstance(parts, tuple) or len(parts) > MOST_PARTS:
+        raise InvalidWord("no tuple of at most so many parts")
+    if not all([are_so_many_words(field, r, part) for part in parts]):
+        raise InvalidWord("not as many words as a part has")
 
 
 def digits_of_sign(q, size, number):
@@ -115,14 +118,6 @@ def letter_of(field, r, parts):
     return found
 
 
-def need_some_words(field, r, parts):
-    """Raise InvalidWord unless this is a tuple of not too many tuples of r words."""
-    if not isinstance(parts, tuple) or len(parts) > MOST_PARTS:
-        raise InvalidWord("no tuple of at most so many parts")
-    if not all([are_so_many_words(field, r, part) for part in parts]):
-        raise InvalidWord("not as many words as a part has")
-
-
 def letter_sent(net, code, letter, drawn, wrong, silent):
     """For each part the words on all links."""
     need_code(net, code)
@@ -145,10 +140,10 @@ def letter_read(net, code, sink, t, silent, words):
         need_fitting(net, code, sink, t, silent[place], word_row)
         found = messages_read(listener, t, silent[place], word_row)
         if len(found) != 1:
-            return "two" if found else "beyond", place
+            return ("two" if found else "beyond"), place
         parts.append(found[0])
     kind, answer = letter_in(code[0], code[3], parts)
-    return "read" if kind == "letter" else kind, answer
+    return ("read" if kind == "letter" else kind), answer
 
 
 def other_letter(net, code, lots, letter, drawn, other):

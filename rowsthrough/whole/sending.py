@@ -29,8 +29,8 @@ class Hearing:
         self.listener = listener
         self.field = listener.field
         self.ear = Ear(listener.net, listener.code, listener.sink, silent)
+        self.silent = silent
         self.words = packed_all(words)
-        self.others = [link for link in range(len(listener.net.links)) if link not in silent]
         # Where the vectors begin in heard rows, and where all ends.
         self.begin = self.ear.begin
         self.full = self.ear.end + self.field.m
@@ -47,10 +47,11 @@ class Hearing:
         What is heard is what is sent with these words, and words added on the lot. All lots of so many links
         are looked at.
         """
+        others = [link for link in range(len(self.listener.net.links)) if link not in self.silent]
         found = []
         # The heard rows that are left by no link of the lot at hand, by its first one, by its first two ..
         left, ahead = [self.begun], ()
-        for lot in combinations(self.others, many):
+        for lot in combinations(others, many):
             same = alike(ahead, lot)
             left = left[:same + 1]
             for link in lot[same:]:
@@ -104,7 +105,7 @@ class Hearing:
 
     def size_of_lots(self, t):
         """How many links the lots have that are to be looked at."""
-        return min(t, len(self.others))
+        return min(t, len(self.listener.net.links) - len(self.silent))
 
 
 def need_sent(net, code, message, drawn):
