@@ -230,8 +230,10 @@ class Kept(unittest.TestCase):
         chance, seen = random.Random(218), set()
         shapes = [(TWIN, (2,)), (TWIN, (1, 2)), (THREE, (1,)), (Net(3, ((0, 1),) * 4 + ((0, 2),) * 3), (1, 2)), (BARE, (2,))]
         for net, sinks in [*shapes, *[(net, some_sinks(chance, net)) for net in drawn_nets(219, 6, 5)]]:
-            for q, m, n, many in ((2, 1, 1, 1), (3, 2, 2, 1), (2, 2, 2, 2)):
-                code = random_code(chance, net, q, m, n, many, 1, 2)
+            codes = [random_code(chance, net, q, m, n, many, 1, 2) for q, m, n, many in ((2, 1, 1, 1), (3, 2, 2, 1), (2, 2, 2, 2))]
+            # The one word is handed on by all links.
+            ones = tuple((1,) if tail == 0 else (1,) * len(own_into(net, tail)) for tail, _ in net.links)
+            for code in [*codes, (Field(7, 1), ones, (((1,),),), 1)]:
                 most = min(6, len(net.links) + 1)
                 found = kept_frontier(net, code, sinks, most)
                 self.assertEqual(len(found), most + 1)

@@ -232,7 +232,7 @@ class PartByPart(unittest.TestCase):
         (THREE, (1,), (1, 1, 0, 0), 2), (THREE, (1,), (1, 0, 1, 1), 5), (FLY, (5, 6), (1, 0, 1, 0), 3),
         (FLY, (5, 6), (1, 0, 0, 1), 2),
         (WIDE, (1, 2), (1, 1, 1, 1), 2), (FULL, (1,), (2, 1, 0, 2), 3), (FLY, (5, 6), (2, 0, 0, 0), 13),
-        (WIDE, (2,), (3, 0, 1, 1), 2),
+        (WIDE, (2,), (3, 0, 1, 1), 2), (THREE, (1,), (1, 0, 0, 2), 2),
     )
 
     def bent(self, chance, own, net, t, s, many):
@@ -354,7 +354,7 @@ class PartByPart(unittest.TestCase):
 class OtherLetters(unittest.TestCase):
     def test_the_same_on_each_lot(self):
         chance, seen = random.Random(234), set()
-        for net, sinks, numbers, q in PartByPart.PLANS:
+        for (net, sinks, numbers, q), _ in itertools.product(PartByPart.PLANS, range(3)):
             code = plan_or_cut(net, sinks, numbers, q)[1]
             own, r, k = own_of(code), numbers[0], numbers[3]
             letter = drawn_letter(chance, 8)
@@ -364,9 +364,8 @@ class OtherLetters(unittest.TestCase):
             lots = tuple(tuple(sorted(chance.sample(range(len(net.links)), chance.choice((k, k // 2))))) for _ in range(many))
             found = other_letter(net, code, lots, letter, drawn, other)
             nothing = ((),) * many
-            one, two = letter_sent(
-                net, code, letter, drawn, nothing, nothing,
-            ), letter_sent(net, code, other, found, nothing, nothing)
+            one = letter_sent(net, code, letter, drawn, nothing, nothing)
+            two = letter_sent(net, code, other, found, nothing, nothing)
             for place, lot in enumerate(lots):
                 for link in lot:
                     self.assertEqual(one[place][link], two[place][link])
@@ -384,9 +383,8 @@ class OtherLetters(unittest.TestCase):
         lots = ((0, 1), (1, 2), (0, 2), ())
         found = other_letter(THREE, code, lots, letter, drawn, other)
         nothing = ((),) * 4
-        one, two = letter_sent(
-            THREE, code, letter, drawn, nothing, nothing,
-        ), letter_sent(THREE, code, other, found, nothing, nothing)
+        one = letter_sent(THREE, code, letter, drawn, nothing, nothing)
+        two = letter_sent(THREE, code, other, found, nothing, nothing)
         for place, lot in enumerate(lots):
             self.assertEqual([one[place][link] for link in lot], [two[place][link] for link in lot])
         self.assertNotEqual(one, two)

@@ -80,8 +80,10 @@ def small_questions(seed):
                 silent = tuple(sorted(chance.sample(range(many), min(many, chance.randrange(3)))))
                 if q ** (m * (rows + min(t, many - len(silent)))) <= 130:
                     yield net, code, sink, t, silent
-    # The message is told by five links.
-    yield Net(2, ((0, 1),) * 6), (Field(2, 1), ((1,),) * 6, (((1,),),), 1), 1, 2, (0,)
+    # The message is told by each link.
+    for t, silent in itertools.product(range(3), ((), (0,))):
+        yield Net(2, ((0, 1),) * 6), (Field(2, 1), ((1,),) * 6, (((1,),),), 1), 1, t, silent
+        yield LINE, (Field(3, 1), ((1,), (2,), (1,)), (((1,),),), 1), 1, t, silent
 
 
 def own_fits(net, code, sink, t, silent):

@@ -187,9 +187,8 @@ class MainStatement(unittest.TestCase):
             self.assertEqual(letter_read(net, code, sink, t, tuple(silent), words), ("read", letter))
         lots, nothing = tuple(tuple(sorted(chance.sample(range(len(net.links)), k))) for _ in range(many)), ((),) * many
         found = other_letter(net, code, lots, letter, drawn, other)
-        one, two = letter_sent(
-            net, code, letter, drawn, nothing, nothing,
-        ), letter_sent(net, code, other, found, nothing, nothing)
+        one = letter_sent(net, code, letter, drawn, nothing, nothing)
+        two = letter_sent(net, code, other, found, nothing, nothing)
         for lot, words, others in zip(lots, one, two):
             self.assertEqual([words[link] for link in lot], [others[link] for link in lot])
 
